@@ -1,0 +1,1 @@
+"""Twoglass: tables of records, seen and written through glasses."""
