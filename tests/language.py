@@ -1,4 +1,8 @@
-"""What of LANGUAGE.md can be told from the text of the package: faults(files) lists what goes against it."""
+"""A check of the package's text against a part of LANGUAGE.md: faults(files) lists what goes against it.
+
+Not looked at, or only in part: L13, L15 (what is kept in a list or dict of a file's top), L18 (classes as values),
+L19, L22, L24 (walked sets), L26, L28. These are left to the reader.
+"""
 
 import ast
 import builtins
