@@ -65,3 +65,20 @@ def spoiled(chance, thing):
     if way == 2:
         return thing[::-1]
     return thing[:place] + (spoiled(chance, thing[place]),) + thing[place + 1:]
+
+
+def some_value(chance, kind, most):
+    if kind[0] == "number":
+        return chance.choice((kind[1], kind[2], chance.randint(kind[1], kind[2])))
+    if kind[0] == "word":
+        return chance.choice(kind[1])
+    return some_table(chance, kind[1], most, 1 if kind[2] else 0)
+
+
+def some_table(chance, form, most, fewest=0):
+    """A table of the form, of fewest to most rows, or fewer where keys come twice."""
+    rows_by_key = {}
+    for unused in range(chance.randint(fewest, most)):
+        key = tuple([some_value(chance, kind, 3) for name, kind in form[0]])
+        rows_by_key[key] = key + tuple([some_value(chance, kind, 3) for name, kind in form[1]])
+    return tuple([rows_by_key[key] for key in sorted(rows_by_key)])

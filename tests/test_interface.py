@@ -7,7 +7,23 @@ INTERFACE = {
     "forms": {"check_form": ["form"], "names_of": ["form"], "place_of": ["form", "name"], "depth_of": ["form"]},
     "tables": {"fits": ["kind", "value"], "keeps": ["form", "table"], "sorted_by": ["many", "rows"],
                "least_row": ["form"]},
+    "changes": {"changes": ["many", "old", "new"], "changed": ["many", "table", "some"],
+                "joined": ["first", "second"], "undone": ["some"]},
 }
+STEP_METHODS = {"words": [], "view_form": ["form"], "got": ["form", "table"], "put": ["form", "table", "view"],
+                "exact": ["form"], "steady": ["form"]}
+STEPS = {
+    "renames": {"Rename": ["old", "new"]},
+    "parts": {"Part": ["name", "by", "quotient", "rest"], "Fuse": ["quotient", "rest", "by", "name"]},
+}
+
+
+def named(module, name):
+    return getattr(importlib.import_module(f"twoglass.{module}"), name)
+
+
+def arguments_of(function):
+    return list(inspect.signature(function).parameters)
 
 
 class InterfaceTest(unittest.TestCase):
@@ -15,9 +31,31 @@ class InterfaceTest(unittest.TestCase):
         for module, functions in INTERFACE.items():
             for name, arguments in functions.items():
                 with self.subTest(module=module, name=name):
-                    function = getattr(importlib.import_module(f"twoglass.{module}"), name)
+                    function = named(module, name)
                     self.assertEqual(function.__module__, f"twoglass.{module}")
-                    self.assertEqual(list(inspect.signature(function).parameters), arguments)
+                    self.assertEqual(arguments_of(function), arguments)
+
+    def check_methods(self, thing, methods):
+        for name, arguments in methods.items():
+            with self.subTest(thing=thing, name=name):
+                self.assertEqual(arguments_of(getattr(thing, name)), arguments)
+
+    def check_class(self, module, name, base, arguments, methods):
+        with self.subTest(module=module, name=name):
+            made = named(module, name)
+            self.assertEqual(made.__module__, f"twoglass.{module}")
+            self.assertEqual(made.__bases__, (base,))
+            self.assertEqual(arguments_of(made), arguments)
+            values = [object() for unused in arguments]
+            thing = made(*values)
+            self.assertEqual(vars(thing), dict(zip(arguments, values)))
+            self.check_methods(thing, methods)
+
+    def test_steps(self):
+        self.check_class("steps", "Step", object, [], STEP_METHODS)
+        for module, classes in STEPS.items():
+            for name, arguments in classes.items():
+                self.check_class(module, name, named("steps", "Step"), arguments, STEP_METHODS)
 
 
 if __name__ == "__main__":
