@@ -15,7 +15,12 @@ STEP_METHODS = {"words": [], "view_form": ["form"], "got": ["form", "table"], "p
 STEPS = {
     "renames": {"Rename": ["old", "new"]},
     "parts": {"Part": ["name", "by", "quotient", "rest"], "Fuse": ["quotient", "rest", "by", "name"]},
+    "drops": {"Drop": ["name", "value"]},
+    "sieves": {"Sieve": ["name", "kind"]},
+    "nests": {"Nest": ["many", "name"], "Unnest": ["name"]},
 }
+PAIR_METHODS = {"words": [], "view_form": ["one", "other"], "got": ["forms", "tables"],
+                "put": ["forms", "tables", "view"]}
 
 
 def named(module, name):
@@ -56,6 +61,10 @@ class InterfaceTest(unittest.TestCase):
         for module, classes in STEPS.items():
             for name, arguments in classes.items():
                 self.check_class(module, name, named("steps", "Step"), arguments, STEP_METHODS)
+
+    def test_pairs(self):
+        self.check_class("pairs", "Pair", object, [], PAIR_METHODS)
+        self.check_class("pairs", "Join", named("pairs", "Pair"), [], PAIR_METHODS)
 
 
 if __name__ == "__main__":
