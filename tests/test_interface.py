@@ -9,6 +9,9 @@ INTERFACE = {
                "least_row": ["form"]},
     "changes": {"changes": ["many", "old", "new"], "changed": ["many", "table", "some"],
                 "joined": ["first", "second"], "undone": ["some"]},
+    "panes": {"behind": ["outer", "inner"], "beside": ["one", "other"]},
+    "carried": {"forward": ["forms", "pane", "house", "some"], "backward": ["forms", "pane", "house", "some"],
+                "is_flat": ["glass"]},
 }
 STEP_METHODS = {"words": [], "view_form": ["form"], "got": ["form", "table"], "put": ["form", "table", "view"],
                 "exact": ["form"], "steady": ["form"]}
@@ -21,6 +24,9 @@ STEPS = {
 }
 PAIR_METHODS = {"words": [], "view_form": ["one", "other"], "got": ["forms", "tables"],
                 "put": ["forms", "tables", "view"]}
+GLASS_METHODS = {"names": [], "form": ["forms"], "got": ["forms", "house"], "put": ["forms", "house", "view"]}
+GLASSES = {"Leaf": ["name"], "Over": ["glass", "step"], "Both": ["one", "other", "pair"]}
+PANE_METHODS = {"view_forms": ["forms"], "got": ["forms", "house"], "put": ["forms", "house", "views"]}
 
 
 def named(module, name):
@@ -65,6 +71,20 @@ class InterfaceTest(unittest.TestCase):
     def test_pairs(self):
         self.check_class("pairs", "Pair", object, [], PAIR_METHODS)
         self.check_class("pairs", "Join", named("pairs", "Pair"), [], PAIR_METHODS)
+        self.check_class("gathers", "Gather", named("pairs", "Pair"), ["name"], PAIR_METHODS)
+
+    def test_glasses(self):
+        self.check_class("glasses", "Glass", object, [], GLASS_METHODS)
+        for name, arguments in GLASSES.items():
+            self.check_class("glasses", name, named("glasses", "Glass"), arguments, GLASS_METHODS)
+
+    def test_panes(self):
+        pane = named("panes", "Pane")
+        self.assertEqual(pane.__module__, "twoglass.panes")
+        self.assertEqual(pane.__bases__, (object,))
+        self.assertEqual(arguments_of(pane), ["pairs"])
+        self.assertEqual(pane(()).pairs, ())
+        self.check_methods(pane(()), PANE_METHODS)
 
 
 if __name__ == "__main__":
