@@ -12,6 +12,9 @@ INTERFACE = {
     "panes": {"behind": ["outer", "inner"], "beside": ["one", "other"]},
     "carried": {"forward": ["forms", "pane", "house", "some"], "backward": ["forms", "pane", "house", "some"],
                 "is_flat": ["glass"]},
+    "lasting": {"lasting": ["forms", "glass"]},
+    "thinned": {"thinned": ["forms", "glass"], "steps_of": ["glass"]},
+    "texts": {"shown": ["glass"], "read": ["text"]},
 }
 STEP_METHODS = {"words": [], "view_form": ["form"], "got": ["form", "table"], "put": ["form", "table", "view"],
                 "exact": ["form"], "steady": ["form"]}
@@ -26,6 +29,8 @@ PAIR_METHODS = {"words": [], "view_form": ["one", "other"], "got": ["forms", "ta
                 "put": ["forms", "tables", "view"]}
 GLASS_METHODS = {"names": [], "form": ["forms"], "got": ["forms", "house"], "put": ["forms", "house", "view"]}
 GLASSES = {"Leaf": ["name"], "Over": ["glass", "step"], "Both": ["one", "other", "pair"]}
+WATCH_METHODS = {"open_pane": ["name", "pane"], "shut": ["name"], "change_house": ["some"], "write": ["name", "some"],
+                 "house_now": [], "views": ["name"]}
 PANE_METHODS = {"view_forms": ["forms"], "got": ["forms", "house"], "put": ["forms", "house", "views"]}
 
 
@@ -85,6 +90,12 @@ class InterfaceTest(unittest.TestCase):
         self.assertEqual(arguments_of(pane), ["pairs"])
         self.assertEqual(pane(()).pairs, ())
         self.check_methods(pane(()), PANE_METHODS)
+
+    def test_the_watch(self):
+        watch = named("watch", "Watch")
+        self.assertEqual(watch.__module__, "twoglass.watch")
+        self.assertEqual(arguments_of(watch), ["forms", "house"])
+        self.check_methods(watch({}, {}), WATCH_METHODS)
 
 
 if __name__ == "__main__":

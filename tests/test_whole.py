@@ -3,15 +3,19 @@
 import random
 import unittest
 
-from some_glasses import near_table, some_forms, some_glass, some_house, some_pane
+from some_glasses import near_table, some_forms, some_glass, some_house, some_pane, tree_of
 from twoglass.carried import backward, forward, is_flat
 from twoglass.changes import changed, changes
 from twoglass.forms import check_form
 from twoglass.glasses import parts_of
+from twoglass.lasting import lasting
 from twoglass.nests import Unnest
+from twoglass.panes import Pane, behind, beside
 from twoglass.tables import keeps
+from twoglass.texts import read, shown
+from twoglass.thinned import steps_of, thinned
 
-TIMES = 250
+TIMES = 150
 NAMES = "abcd"
 
 
@@ -99,6 +103,68 @@ class WholeTest(unittest.TestCase):
             if is_flat(glass):
                 for name in glass.names():
                     self.assertLessEqual(len(told.get(name, ())), len(some[view]))
+
+    def test_panes_behind_one_another_are_told_as_one(self):
+        self.each_pane(74, self.check_behind)
+
+    def check_behind(self, chance, forms, inner):
+        between = inner.view_forms(forms)
+        outer = some_pane(chance, between, list(between), 6)
+        pane = behind(outer, inner)
+        house = some_house(chance, forms, 6)
+        shown = inner.got(forms, house)
+        self.assertEqual(pane.view_forms(forms), outer.view_forms(between))
+        self.assertEqual(pane.got(forms, house), outer.got(between, shown))
+        some = tables_changes(forms, house, near_tables(chance, forms, house, 2))
+        self.assertEqual(forward(forms, pane, house, some),
+                         forward(between, outer, shown, forward(forms, inner, house, some)))
+        old = pane.got(forms, house)
+        some = tables_changes(pane.view_forms(forms), old, near_tables(chance, pane.view_forms(forms), old, 2))
+        self.assertEqual(backward(forms, pane, house, some),
+                         backward(forms, inner, house, backward(between, outer, shown, some)))
+
+    def test_panes_beside_one_another_are_told_as_one(self):
+        self.each_pane(75, self.check_beside)
+
+    def check_beside(self, chance, forms, pane):
+        cut = chance.randint(0, len(pane.pairs))
+        one, other = Pane(pane.pairs[:cut]), Pane(pane.pairs[cut:])
+        house = some_house(chance, forms, 6)
+        whole = beside(one, other)
+        self.assertEqual(whole.got(forms, house), {**one.got(forms, house), **other.got(forms, house)})
+        after = near_tables(chance, forms, house, 2)
+        some = tables_changes(forms, house, after)
+        self.assertEqual(forward(forms, whole, house, some),
+                         {**forward(forms, one, house, some), **forward(forms, other, house, some)})
+        views = near_tables(chance, whole.view_forms(forms), whole.got(forms, house), 2)
+        self.assertEqual(whole.put(forms, house, views), other.put(forms, one.put(forms, house, views), views))
+
+    def test_two_views_one_behind_the_other(self):
+        self.each_glass(76, self.check_lasting)
+
+    def check_lasting(self, chance, forms, glass):
+        witness = lasting(forms, glass)
+        house = some_house(chance, forms, 6)
+        first = near_table(chance, glass.form(forms), glass.got(forms, house), 3)
+        second = near_table(chance, glass.form(forms), first, 3)
+        if witness is not None:
+            house, first, second = witness
+        counts = glass.put(forms, glass.put(forms, house, first), second) == glass.put(forms, house, second)
+        self.assertEqual(counts, witness is None)
+
+    def test_a_thinned_glass_is_written_thinner_and_lasts_as_well(self):
+        self.each_glass(77, self.check_thinned)
+
+    def check_thinned(self, chance, forms, glass):
+        thin = thinned(forms, glass)
+        self.assertLessEqual(steps_of(thin), steps_of(glass))
+        self.assertEqual(thin.form(forms), glass.form(forms))
+        house = some_house(chance, forms, 6)
+        view = near_table(chance, thin.form(forms), thin.got(forms, house), 3)
+        self.assertEqual(thin.got(forms, house), glass.got(forms, house))
+        self.assertEqual(thin.put(forms, house, view), glass.put(forms, house, view))
+        self.assertEqual(lasting(forms, thin) is None, lasting(forms, glass) is None)
+        self.assertEqual(tree_of(read(shown(thin))), tree_of(thin))
 
 
 if __name__ == "__main__":
